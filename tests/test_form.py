@@ -1,0 +1,75 @@
+"""The names that the document lists, and the parts of the form of the code that are easily measured."""
+
+import ast
+import importlib
+import inspect
+import unittest
+from pathlib import Path
+
+TOP = Path(__file__).resolve().parent.parent
+PACKAGE = TOP / "weeksums"
+INTERFACE = {
+    "errors": {
+        "Impossible": ["word", "days"], "Disagree": ["word", "days"], "TooShort": ["days"], "InvalidText": ["place"],
+    },
+    "ties": {
+        "sums_of": ["numbers", "length"], "days_of": ["sums", "length"], "tied_days": ["sums", "length", "day"],
+        "tie_between": ["sums", "length", "first", "second"], "forced_total": ["sums", "length", "days"],
+    },
+    "ways": {
+        "conflict_of": ["sums", "length", "most"], "shows_conflict": ["sums", "length", "most", "thing"],
+        "is_way": ["sums", "length", "most", "thing"], "least_way": ["sums", "length", "most"],
+        "greatest_way": ["sums", "length", "most"],
+    },
+}
+
+
+def trees():
+    for path in sorted(PACKAGE.rglob("*.py")):
+        yield path, ast.parse(path.read_text("ascii"))
+
+
+class Interface(unittest.TestCase):
+    def test_names_and_arguments(self):
+        for file, told in INTERFACE.items():
+            module = importlib.import_module(f"weeksums.{file}")
+            for name, arguments in told.items():
+                thing = getattr(module, name)
+                self.assertEqual(thing.__module__, f"weeksums.{file}")
+                self.assertEqual(list(inspect.signature(thing).parameters), arguments, name)
+
+
+class Form(unittest.TestCase):
+    def test_the_package_holds_python_files_alone(self):
+        for path in PACKAGE.rglob("*"):
+            if "__pycache__" not in path.parts and not path.is_dir():
+                self.assertEqual(path.suffix, ".py", path)
+
+    def test_sizes_and_characters(self):
+        for path, tree in trees():
+            rows = path.read_text("ascii").split("\n")
+            self.assertLessEqual(len(rows), 399, path)
+            for row in rows:
+                self.assertLessEqual(len(row), 120, (path, row))
+                self.assertTrue(row.isprintable(), (path, row))
+            for node in ast.walk(tree):
+                if isinstance(node, ast.FunctionDef):
+                    self.assertLessEqual(node.end_lineno - node.lineno + 1, 40, (path, node.name))
+
+    def test_imports_are_of_the_package(self):
+        for path, tree in trees():
+            for node in ast.walk(tree):
+                self.assertNotIsInstance(node, ast.Import, path)
+                if isinstance(node, ast.ImportFrom):
+                    self.assertTrue(node.module.startswith("weeksums."), (path, node.module))
+                    self.assertEqual([name.asname for name in node.names], [None] * len(node.names))
+
+    def test_no_string_holds_a_percent_sign(self):
+        for path, tree in trees():
+            for node in ast.walk(tree):
+                if isinstance(node, ast.Constant) and isinstance(node.value, str):
+                    self.assertNotIn(chr(37), node.value, path)
+
+
+if __name__ == "__main__":
+    unittest.main()

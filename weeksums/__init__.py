@@ -1,0 +1,1 @@
+"""Weeksums: days told back from sums over the last days."""

@@ -1,0 +1,72 @@
+"""What is valid: each check raises the error of its own argument."""
+
+from weeksums.errors import InvalidDay, InvalidDays, InvalidLength, InvalidMost, InvalidNumbers, InvalidSums
+
+GREATEST_COUNT = 67
+GREATEST_LENGTH = 8
+GREATEST_MOST = 10 ** 30 - 1
+
+
+def is_integer(thing):
+    """Whether any object is an integer; True and False are none, though Python counts them as such."""
+    return isinstance(thing, int) and not isinstance(thing, bool)
+
+
+def is_within(thing, low, high):
+    """Whether any object is an integer from low to high."""
+    return is_integer(thing) and low <= thing <= high
+
+
+def is_row(thing):
+    """Whether any object is a list of 1 to 67 integers."""
+    if type(thing) is not list or not 1 <= len(thing) <= GREATEST_COUNT:
+        return False
+    return all([is_integer(item) for item in thing])
+
+
+def is_row_within(thing, count, low, high):
+    """Whether any object is a list of count integers from low to high."""
+    if type(thing) is not list or len(thing) != count:
+        return False
+    return all([is_within(item, low, high) for item in thing])
+
+
+def is_choice(thing, length, count):
+    """Whether any object is a list of days, one of each class, out of count days."""
+    if not is_row_within(thing, length, 0, count - 1):
+        return False
+    return sorted([day % length for day in thing]) == list(range(length))
+
+
+def check_numbers(numbers, length):
+    """The numbers of the days, then the length of the sums that are asked of them."""
+    if not is_row(numbers):
+        raise InvalidNumbers("the numbers are not a list of 1 to 67 integers")
+    if not is_within(length, 1, min(GREATEST_LENGTH, len(numbers))):
+        raise InvalidLength("the length is not from 1 to 8 and at most the number of days")
+
+
+def check_sums(sums, length):
+    """The sums, then their length, which together tell of a number of days."""
+    if not is_row(sums):
+        raise InvalidSums("the sums are not a list of 1 to 67 integers")
+    if not is_within(length, 1, min(GREATEST_LENGTH, GREATEST_COUNT + 1 - len(sums))):
+        raise InvalidLength("the length is not from 1 to 8, or tells of more than 67 days")
+
+
+def check_most(most):
+    """The greatest number that a day can have."""
+    if not is_within(most, 0, GREATEST_MOST):
+        raise InvalidMost("the most is not from 0 to 10 ** 30 - 1")
+
+
+def check_day(day, count):
+    """One day out of count days."""
+    if not is_within(day, 0, count - 1):
+        raise InvalidDay("there is no such day")
+
+
+def check_choice(days, length, count):
+    """A list of days, one of each class, out of count days."""
+    if not is_choice(days, length, count):
+        raise InvalidDays("the days are not a list of one day of each class")
