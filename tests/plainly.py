@@ -6,6 +6,16 @@ WORDS = ("apart", "low", "high")
 TOP = 10 ** 30 - 1
 
 
+# length, how many sums, most
+SIZES = (
+    [(1, many, most) for many in (1, 2, 3) for most in (0, 1, 2)]
+    + [(2, many, most) for many in (1, 2, 3) for most in (0, 1, 2)]
+    + [(2, 4, 1), (2, 5, 1), (2, 4, 2), (1, 4, 1)]
+    + [(3, many, most) for many in (1, 2, 3) for most in (0, 1, 2)]
+    + [(3, 4, 1), (4, 1, 1), (4, 2, 1), (4, 3, 1), (4, 2, 2), (5, 1, 2), (5, 3, 1), (6, 2, 1), (7, 2, 1), (8, 2, 1)]
+)
+
+
 def sums_by_hand(numbers, length):
     sums = []
     for at in range(len(numbers) - length + 1):
@@ -50,7 +60,11 @@ def one_of_each(count, length):
 
 def rules_out(sums, length, most, word, days):
     """Whether these days are what the word says; days is a list of integers of any kind."""
-    numbers = some_list(sums, length)
+    return is_ruled_out(some_list(sums, length), length, most, word, days)
+
+
+def is_ruled_out(numbers, length, most, word, days):
+    """The same with any list of integers that has the sums."""
     if any(day < 0 or day >= len(numbers) for day in days):
         return False
     if word == "apart":
@@ -76,12 +90,12 @@ def told_conflict(sums, length, most):
     """What conflict_of is to tell, by the definitions alone."""
     numbers = some_list(sums, length)
     pairs = [[first, second] for second in range(len(numbers)) for first in range(second)]
-    apart = [days for days in pairs if rules_out(sums, length, most, "apart", days)]
+    apart = [days for days in pairs if is_ruled_out(numbers, length, most, "apart", days)]
     if apart:
         return ("apart", min(apart))
     for word, extreme in (("low", min), ("high", max)):
         days = first_extreme(numbers, length, extreme)
-        if rules_out(sums, length, most, word, days):
+        if is_ruled_out(numbers, length, most, word, days):
             return (word, days)
     return None
 
@@ -95,3 +109,110 @@ def numbers_of_many_digits(count, most, seed):
         wide = (state ** 2 * 998244353 + state) * 10 ** 9 + state // 3
         numbers.append(wide * 7919 % (most + 1))
     return numbers
+
+
+def small_rows():
+    """All sums of these sizes from one below what can be to one above it."""
+    for length, many, most in SIZES:
+        for sums in product(range(-1, length * most + 2), repeat=many):
+            yield list(sums), length, most
+
+
+def rows_with_ways():
+    """The small sums of which there are ways, with all of these."""
+    for sums, length, most in small_rows():
+        ways = all_ways(sums, length, most)
+        if ways:
+            yield sums, length, most, ways
+
+
+def ends(values):
+    return (min(values), max(values))
+
+
+def lists_of_67_days(most):
+    """For each length numbers of 67 days, some with little room and some with much."""
+    for length in range(1, 9):
+        for part in (1, 2, 9):
+            yield length, numbers_of_many_digits(67, most // part, length + part + most % 1000)
+
+
+def narrow_list(length, start, room, most):
+    """Numbers of 67 days; one class of days reaches from 0 to so far below the most."""
+    numbers = numbers_of_many_digits(67, most // 2, length + start + room)
+    row = [day for day in range(67) if day % length == start]
+    for day in row:
+        numbers[day] = numbers[day] % (most - room + 1)
+    numbers[row[1]] = most - room
+    numbers[row[2]] = 0
+    return numbers
+
+
+def moved(numbers, length, heavy, light, by):
+    """The numbers with so much moved from the days of one class to those of another one."""
+    numbers = list(numbers)
+    for day in range(len(numbers)):
+        if day % length == heavy:
+            numbers[day] -= by
+        if day % length == light:
+            numbers[day] += by
+    return numbers
+
+
+def room_to_move(numbers, length, most, heavy, light):
+    return min(min(numbers[heavy::length]), most - max(numbers[light::length]))
+
+
+def least_weighed(numbers, length, most, weights):
+    """The way with the least weight, a weight for each day, from any way: what helps is moved until nothing does."""
+    classes = [sum(weights[start::length]) for start in range(length)]
+    pairs = [(heavy, light) for heavy in range(length) for light in range(length) if classes[heavy] > classes[light]]
+    while True:
+        rooms = [(room_to_move(numbers, length, most, heavy, light), heavy, light) for heavy, light in pairs]
+        by, heavy, light = max(rooms, default=(0, 0, 0))
+        if by == 0:
+            return numbers
+        numbers = moved(numbers, length, heavy, light, by)
+
+
+def weighed_range(numbers, length, most, weights):
+    """The least and the greatest weight over all ways that have the same sums as this one."""
+    least = least_weighed(numbers, length, most, weights)
+    greatest = least_weighed(numbers, length, most, [-weight for weight in weights])
+    return tuple(sum(number * weight for number, weight in zip(way, weights)) for way in (least, greatest))
+
+
+def weights_of(days, count):
+    return [1 if day in days else 0 for day in range(count)]
+
+
+def next_way(numbers, length, most):
+    """The way next to this one, ascending, or None."""
+    for start in range(length - 2, -1, -1):
+        for later in range(length - 1, start, -1):
+            if room_to_move(numbers, length, most, later, start) > 0:
+                numbers = moved(numbers, length, later, start, 1)
+                for heavy in range(start + 1, length):
+                    for light in range(length - 1, heavy, -1):
+                        by = room_to_move(numbers, length, most, heavy, light)
+                        numbers = moved(numbers, length, heavy, light, by)
+                return numbers
+    return None
+
+
+def count_step_by_step(numbers, length, most):
+    """How many ways have the sums of this one, class by class over all totals; for a small most."""
+    counts = {0: 1}
+    for start in range(length):
+        row = numbers[start::length]
+        found = {}
+        for total, many in counts.items():
+            for by in range(-min(row), most - max(row) + 1):
+                found[total + by] = found.get(total + by, 0) + many
+        counts = found
+    return counts[0]
+
+
+def without_class(numbers, length, start):
+    """The days of all other classes; each length - 1 of these in a row are one of each of them."""
+    return [number for day, number in enumerate(numbers) if day % length != start]

@@ -4,6 +4,10 @@ import unittest
 
 import plainly
 from weeksums import errors
+from weeksums.counts import count_ways, count_with, nth_way, way_index
+from weeksums.levels import greatest_floor, least_peak, least_spread, peak_paper, way_within
+from weeksums.ranges import (all_ranges, certain_days, day_range, difference_range, next_range, row_range,
+                             total_range)
 from weeksums.ties import days_of, forced_total, sums_of, tie_between, tied_days
 from weeksums.ways import conflict_of, greatest_way, is_way, least_way, shows_conflict
 
@@ -14,12 +18,36 @@ APART = [4, 5, 15]
 INNER = errors.Impossible("low", [1])
 
 
+def calls_of_ways(told, days):
+    """Calls of the functions of ranges, levels and counts."""
+    count = len(told["sums"]) + told["length"] - 1
+    for call in (all_ranges, certain_days, next_range, least_peak, peak_paper, greatest_floor, least_spread,
+                 count_ways):
+        yield call, told
+    for call in (day_range, count_with):
+        for day in (0, count - 1):
+            yield call, {**told, "day": day, **({"number": 2} if call is count_with else {})}
+    for first, beyond in ((0, count), (count, count), (0, 0), (1, count)):
+        yield row_range, {**told, "first": first, "beyond": beyond}
+    for chosen in ([], days, days[:1]):
+        yield total_range, {**told, "days": chosen}
+    yield difference_range, {**told, "first": count - 1, "second": 0}
+    for low, high in ((0, told["most"]), (-TOP, TOP), (2, 1), (1, 8)):
+        yield way_within, {**told, "low": low, "high": high}
+    for index in (0, 1, 3, 10 ** 150):
+        yield nth_way, {**told, "index": index}
+    ways = ([3, 1, 4, 1, 5], [1, 3, 2, 3, 3], LONG, [0] * 8, [1, 2, 3], [3, [1]], None, {"a": days}, [[days]])
+    for way in ways:
+        yield way_index, {**told, "way": way}
+
+
 def valid_calls():
-    """Calls with valid arguments, also those that raise Impossible."""
+    """Calls with valid arguments, also those that raise Impossible or what stands behind it."""
     for sums, length, most in (([4, 5, 5, 6], 2, 9), (LONG_SUMS, 7, TOP), (APART, 2, 9), ([-1, -1], 2, 9),
                                ([99, 99], 2, 9), ([0], 8, 0), ([1, 2, 3], 1, 3)):
         count = len(sums) + length - 1
         days = list(range(count - length, count))[::-1]
+        yield from calls_of_ways({"sums": sums, "length": length, "most": most}, days)
         yield days_of, {"sums": sums, "length": length}
         yield tied_days, {"sums": sums, "length": length, "day": count - 1}
         yield tie_between, {"sums": sums, "length": length, "first": count - 1, "second": (count - 1) % length}
@@ -41,7 +69,7 @@ def invalid_calls():
     odd = [1, [2, {"a": (3, [4])}], INNER]
     for call, values in valid_calls():
         for name in values:
-            if name != "thing":
+            if name not in ("thing", "low", "high"):
                 yield call, {**values, name: odd}
 
 
@@ -103,14 +131,29 @@ class Calls(unittest.TestCase):
         kinds = {
             sums_of: (list,), days_of: (int,), tied_days: (list,), tie_between: (int, type(None)),
             forced_total: (int,), conflict_of: (tuple, type(None)), shows_conflict: (bool,), is_way: (bool,),
-            least_way: (list,), greatest_way: (list,),
+            least_way: (list,), greatest_way: (list,), all_ranges: (list,), certain_days: (list,),
+            least_peak: (int,), peak_paper: (tuple,), greatest_floor: (int,), least_spread: (int,),
+            way_within: (list, type(None)), count_ways: (int,), nth_way: (list,), way_index: (int,),
+            count_with: (int,),
         }
+        pairs = (day_range, row_range, total_range, difference_range, next_range)
         for call, values in valid_calls():
             try:
                 told = call(**values)
-            except errors.Impossible:
+            except (errors.Impossible, errors.InvalidIndex, errors.InvalidWay):
                 continue
-            self.assertIn(type(told), kinds[call], call.__name__)
+            if call in pairs:
+                self.assertEqual([type(told)] + [type(number) for number in told], [tuple, int, int], call.__name__)
+            else:
+                self.assertIn(type(told), kinds[call], call.__name__)
+
+    def test_kinds_of_what_is_inside(self):
+        told = ([4, 5, 5, 6], 2, 3)
+        for row in all_ranges(*told) + certain_days(*told):
+            self.assertEqual([type(row)] + [type(number) for number in row], [tuple, int, int])
+        for row in (nth_way(*told, 0), way_within(*told, 0, 9), peak_paper(*told)[1]):
+            self.assertEqual({type(number) for number in row}, {int})
+        self.assertEqual([type(part) for part in peak_paper(*told)], [str, list])
 
     def test_results_may_be_passed_back(self):
         wide = sums_of([TOP] * 67, 8)
@@ -118,6 +161,17 @@ class Calls(unittest.TestCase):
         self.assertEqual(least_way(wide, 8, TOP), [TOP] * 67)
         self.assertEqual(sums_of(least_way(LONG_SUMS, 7, TOP), 7), LONG_SUMS)
         self.assertTrue(shows_conflict(APART, 2, 9, conflict_of(APART, 2, 9)))
+        told = (LONG_SUMS, 7, TOP)
+        last = count_ways(*told) - 1
+        self.assertGreater(last, 10 ** 100)
+        self.assertEqual(nth_way(*told, way_index(*told, nth_way(*told, last))), greatest_way(*told))
+        low, high = next_range(LONG_SUMS[:-1], 7, TOP)
+        for number in (low, high):
+            self.assertIsNone(conflict_of(LONG_SUMS[:-1] + [number], 7, TOP))
+        for number in day_range(*told, 66):
+            self.assertGreater(count_with(*told, 66, number), 0)
+        self.assertTrue(shows_conflict(LONG_SUMS, 7, least_peak(*told) - 1, peak_paper(*told)))
+        self.assertEqual(count_with(*told, 66, last), 0)
 
 
 class Impossibles(unittest.TestCase):

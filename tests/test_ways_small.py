@@ -4,25 +4,9 @@ import unittest
 from itertools import product
 
 import plainly
+from plainly import small_rows
 from weeksums.errors import Impossible
 from weeksums.ways import conflict_of, greatest_way, is_way, least_way, shows_conflict
-
-# length, how many sums, most
-SIZES = (
-    [(1, many, most) for many in (1, 2, 3) for most in (0, 1, 2)]
-    + [(2, many, most) for many in (1, 2, 3) for most in (0, 1, 2)]
-    + [(2, 4, 1), (2, 5, 1), (2, 4, 2), (1, 4, 1)]
-    + [(3, many, most) for many in (1, 2, 3) for most in (0, 1, 2)]
-    + [(3, 4, 1), (4, 1, 1), (4, 2, 1), (4, 3, 1), (4, 2, 2), (5, 1, 2), (5, 3, 1), (6, 2, 1), (7, 2, 1), (8, 2, 1)]
-)
-
-
-def small_rows():
-    """All sums of these sizes from one below what can be to one above it."""
-    for length, many, most in SIZES:
-        for sums in product(range(-1, length * most + 2), repeat=many):
-            yield list(sums), length, most
-
 
 class AllWays(unittest.TestCase):
     def test_both_ways_to_go_through_them_agree(self):

@@ -1,6 +1,7 @@
 """What is valid: each check raises the error of its own argument."""
 
-from weeksums.errors import InvalidDay, InvalidDays, InvalidLength, InvalidMost, InvalidNumbers, InvalidSums
+from weeksums.errors import InvalidDay, InvalidDays, InvalidIndex, InvalidLength, InvalidMost
+from weeksums.errors import InvalidNumber, InvalidNumbers, InvalidSums
 
 GREATEST_COUNT = 67
 GREATEST_LENGTH = 8
@@ -66,7 +67,35 @@ def check_day(day, count):
         raise InvalidDay("there is no such day")
 
 
+def check_row(first, beyond, count):
+    """The first day of a row out of count days, and the one behind its last day; it may have no day."""
+    if not is_within(first, 0, count):
+        raise InvalidDay("no row can begin there")
+    if not is_within(beyond, first, count):
+        raise InvalidDay("a row that begins there cannot end ahead of this one")
+
+
+def check_different(days, count):
+    """A list of different days, perhaps none, out of count days."""
+    if type(days) is not list or not is_row_within(days, len(days), 0, count - 1):
+        raise InvalidDays("the days are not a list of days")
+    if len(set(days)) != len(days):
+        raise InvalidDays("a day stands twice in the list")
+
+
 def check_choice(days, length, count):
     """A list of days, one of each class, out of count days."""
     if not is_choice(days, length, count):
         raise InvalidDays("the days are not a list of one day of each class")
+
+
+def check_index(index):
+    """The index of a way; how many there are is not known here."""
+    if not is_integer(index) or index < 0:
+        raise InvalidIndex("the index is not an integer from 0 on")
+
+
+def check_number(number):
+    """A number that a day may have or not."""
+    if not is_integer(number):
+        raise InvalidNumber("the number is not an integer")

@@ -35,14 +35,14 @@ def is_way(sums, length, most, thing):
 
 def least_way(sums, length, most):
     """The first of all ways, ascending."""
+    check_told(sums, length, most)
     need_way(sums, length, most)
-    offsets = offsets_of(sums, length)
-    starts = least_starts(start_ranges(offsets, length, most), sums[0])
-    return way_from(starts, offsets)
+    return first_way(sums, length, most)
 
 
 def greatest_way(sums, length, most):
     """The last of all ways, ascending."""
+    check_told(sums, length, most)
     need_way(sums, length, most)
     offsets = offsets_of(sums, length)
     # Of the negatives of all numbers the least list belongs to the greatest way.
@@ -58,8 +58,7 @@ def check_told(sums, length, most):
 
 
 def need_way(sums, length, most):
-    """Raises an error unless the arguments are valid and there is a way."""
-    check_told(sums, length, most)
+    """Raises an error unless there is a way, where the arguments are known to be valid."""
     conflict = find_conflict(sums, length, most)
     if conflict is not None:
         word, days = conflict
@@ -75,7 +74,7 @@ def find_conflict(sums, length, most):
     lowest = lowest_days(offsets, length)
     if total_at(sums, offsets, lowest) < 0:
         return ("low", lowest)
-    highest = lowest_days([-offset for offset in offsets], length)
+    highest = highest_days(offsets, length)
     if total_at(sums, offsets, highest) > length * most:
         return ("high", highest)
     return None
@@ -107,6 +106,18 @@ def lowest_days(offsets, length):
     return sorted(days)
 
 
+def highest_days(offsets, length):
+    """Of each class the first day with its greatest offset, all ascending."""
+    return lowest_days([-offset for offset in offsets], length)
+
+
+def first_way(sums, length, most):
+    """The first of all ways, where there is one."""
+    offsets = offsets_of(sums, length)
+    starts = least_starts(start_ranges(offsets, length, most), sums[0])
+    return way_from(starts, offsets)
+
+
 def start_ranges(offsets, length, most):
     """Of each class the least and the greatest number of its first day with which all its days are from 0 to most."""
     ranges = []
@@ -114,6 +125,16 @@ def start_ranges(offsets, length, most):
         row = offsets[start::length]
         ranges.append((-min(row), most - max(row)))
     return ranges
+
+
+def rooms_of(ranges):
+    """How much greater than the least number of its range each number can be."""
+    return [high - low for low, high in ranges]
+
+
+def spare_of(ranges, total):
+    """What is left of the total where each number is the least one of its range."""
+    return total - sum([low for low, _ in ranges])
 
 
 def least_starts(ranges, total):
