@@ -216,3 +216,87 @@ def count_step_by_step(numbers, length, most):
 def without_class(numbers, length, start):
     """The days of all other classes; each length - 1 of these in a row are one of each of them."""
     return [number for day, number in enumerate(numbers) if day % length != start]
+
+
+def matrix_of(count, length):
+    """The factors of each sum of a row of days."""
+    return [[1 if at <= day < at + length else 0 for day in range(count)] for at in range(count - length + 1)]
+
+
+def ring_matrix_of(count, length):
+    """The factors of each sum of a ring of days."""
+    return [[1 if (day - at) % count < length else 0 for day in range(count)] for at in range(count)]
+
+
+def has_integers(rows, totals):
+    """Whether some integers give each row of factors its total, by taking columns off one another."""
+    columns = [list(column) for column in zip(*rows)]
+    rest = list(totals)
+    for at in range(len(rows)):
+        while True:
+            found = sorted((column for column in columns if column[at] != 0), key=lambda column: abs(column[at]))
+            if len(found) < 2:
+                break
+            for column in found[1:]:
+                times = column[at] // found[0][at]
+                column[:] = [number - times * less for number, less in zip(column, found[0])]
+        if found:
+            if rest[at] % found[0][at] != 0:
+                return False
+            times = rest[at] // found[0][at]
+            rest = [number - times * less for number, less in zip(rest, found[0])]
+            columns = [column for column in columns if column is not found[0]]
+        elif rest[at] != 0:
+            return False
+    return True
+
+
+def variants_of(days, count):
+    """A closed list of days turned about, begun elsewhere, longer, and bent; which of these are closed is not said."""
+    yield days[::-1]
+    for at in range(1, len(days) - 1):
+        yield days[at:] + days[1:at + 1]
+    yield days + days[1:]
+    yield days + days[-2:-1] + days[-1:]
+    yield days[:-1]
+    yield days[1:]
+    yield days + days[:1]
+    for at in range(len(days)):
+        for by in (-1, 1):
+            yield days[:at] + [days[at] + by] + days[at + 1:]
+    for day in (-1, count, -count, count + 1, TOP):
+        yield [day] + days[1:-1] + [day]
+        yield days[:1] + [day] + days[1:]
+
+
+def any_objects(days):
+    """Any objects that are no word and list of days, made of a list of days."""
+    deep = [1]
+    for _ in range(19):
+        deep = [deep]
+    for word in ("ring", "parts", "walk"):
+        yield (word, tuple(days))
+        yield [word, days]
+        yield (word, days, days)
+        yield (word, days, None)
+        yield (word,)
+        yield (days, word)
+        yield {word: days}
+        yield (word, {"days": days})
+        yield (word, [days])
+        yield (word, None)
+        yield (word, word)
+        yield (word, 0)
+        yield (word, deep)
+        yield ((word, days),)
+        for at, day in enumerate(days):
+            for odd in (str(day), [day], (day,), None, {}, bool(day), deep):
+                yield (word, days[:at] + [odd] + days[at + 1:])
+    for word in ("Ring", "", "rings", "ring ", "apart", "low", "high", "open", 0, None, True, ("ring",), ["ring"]):
+        yield (word, days)
+        yield (word, [])
+    for thing in (None, True, False, 0, 1, "ring", "parts", "", (), [], {}, days, tuple(days), deep, [0] * 3999,
+                  ("parts", ()), ("parts", {}), ("parts", ""), ("parts", None), ("parts", 0), ("parts", False),
+                  ["parts", []], ("parts",), ("parts", [], []), ("parts", [[]]), ("parts", [0]), ("ring", []),
+                  ("ring", ()), ("ring", [0]), ("ring", [0, 0, 0, 0]) * 3):
+        yield thing

@@ -4,11 +4,15 @@ import unittest
 from itertools import product
 
 import plainly
+from checking import DEEP, NO_INTEGERS, Arguments
 from weeksums import errors
 from weeksums.counts import count_ways, count_with, nth_way, way_index
 from weeksums.levels import greatest_floor, least_peak, least_spread, peak_paper, way_within
+from weeksums.pairs import have_common, joined_days, joint_sums, shows_disagreement
 from weeksums.ranges import (all_ranges, certain_days, day_range, difference_range, next_range, row_range,
                              total_range)
+from weeksums.rings import ring_least, ring_line, ring_sums, ring_ways, shows_open
+from weeksums.slips import corrections, fit_range, least_correction
 from weeksums.ties import days_of, forced_total, sums_of, tie_between, tied_days
 from weeksums.ways import conflict_of, greatest_way, is_way, least_way, shows_conflict
 
@@ -17,6 +21,8 @@ SUMS = [4, 5, 5, 6]
 NUMBERS = [3, 1, 4, 1, 5]
 
 TOLD = [("sums", SUMS), ("length", 2), ("most", 9)]
+BOTH = [("sums", SUMS), ("length", 2), ("other", [8, 6, 10]), ("other_length", 3)]
+RING = [("sums", [4, 5, 5, 4]), ("length", 2)]
 
 # Each function with valid arguments, in the order of its signature, and the
 # error of each of them; thing, low and high have none.
@@ -47,17 +53,27 @@ CALLS = (
     (nth_way, TOLD + [("index", 4)]),
     (way_index, TOLD + [("way", NUMBERS)]),
     (count_with, TOLD + [("day", 4), ("number", 5)]),
+    (joined_days, [("count", 5), ("length", 2), ("other_length", 3)]),
+    (have_common, BOTH),
+    (joint_sums, BOTH),
+    (shows_disagreement, BOTH + [("thing", ("ring", [0, 2, 4, 1, 3, 0]))]),
+    (ring_sums, [("numbers", NUMBERS), ("length", 2)]),
+    (ring_line, RING),
+    (shows_open, RING + [("thing", ("ring", [0, 2, 0]))]),
+    (ring_ways, RING + [("most", 9)]),
+    (ring_least, RING + [("most", 9)]),
+    (fit_range, TOLD + [("index", 3)]),
+    (corrections, TOLD),
+    (least_correction, TOLD),
 )
+RINGS = (ring_sums, ring_line, shows_open, ring_ways, ring_least)
 ERRORS = {
     "sums": errors.InvalidSums, "numbers": errors.InvalidNumbers, "length": errors.InvalidLength,
     "most": errors.InvalidMost, "day": errors.InvalidDay, "first": errors.InvalidDay,
     "second": errors.InvalidDay, "beyond": errors.InvalidDay, "days": errors.InvalidDays,
     "way": errors.InvalidWay, "index": errors.InvalidIndex, "number": errors.InvalidNumber,
+    "other": errors.InvalidSums, "other_length": errors.InvalidLength, "count": errors.InvalidNumber,
 }
-DEEP = [1]
-for _ in range(19):
-    DEEP = [DEEP]
-NO_INTEGERS = (None, True, False, "", "1", [], [1], (1,), {}, {"a": 1}, DEEP, errors.InvalidDay("none"))
 NO_ROWS = (
     None, True, 0, 7, 10 ** 30, "", "4 5 5 6", (), tuple(SUMS), {}, {"a": [1]}, [], [SUMS], [tuple(SUMS)], DEEP,
     [0] * 68, [0] * 4000, errors.Impossible("low", [1]), ("low", [0, 1]), [None], [True],
@@ -79,31 +95,24 @@ WRONG["first"] = WRONG["second"] = WRONG["day"]
 WRONG["beyond"] = (-1, 6, 0, 67, TOP, -TOP, True, False, None, "5", [5])
 WRONG["way"] = WRONG["days"] + (NUMBERS[:4], NUMBERS + [0], [3, 1, 4, 1, 4], [4, 1, 4, 1, 5], [5, -1, 6, -1, 7])
 WRONG["index"] = (-1, -TOP, 5, TOP, 10 ** 300 - 1, True, False, None, "4", [4])
+WRONG["other"] = NO_ROWS
+WRONG["other_length"] = WRONG["length"]
+WRONG["count"] = (0, -1, 68, TOP, -TOP, True, False, None, "5", [5])
 WRONG["number"] = (None, True, False, "5", [5], (5,), {})
 DIFFERENT = (
     None, True, 0, "01", (), (0, 1), {}, {"0": 0, "1": 1}, [0, 0], [4, 1, 4], [0, 1, 2, 3, 4, 0], [3, 3], [-1], [-1, 0],
     [0, -1], [-5], [5], [0, 5], [67], [TOP], [TOP, 1], [0, True], [True], [False, 1], [None], [0, None, 2], ["0"],
     [0, "1"], [[0], 1], [[0, 1]], [(0, 1)], [{}], DEEP, [0] * 4000, list(range(4000)), errors.InvalidDay("none"),
 )
-NAMES = [name for name in vars(errors) if isinstance(getattr(errors, name), type)]
 
 
 def wrong_for(call, name):
     """The objects that are not valid for an argument."""
+    if call in RINGS and name in ("sums", "numbers"):
+        return NO_ROWS + ([0] * 61, [0] * 67)
     if call is total_range and name == "days":
         return DIFFERENT
     return WRONG.get(name, ())
-
-
-class Arguments(unittest.TestCase):
-    def check_error(self, kind, call, values, by_name=()):
-        """The call raises an object of just this class among the package's."""
-        with self.assertRaises(ValueError, msg=(call.__name__, values)) as caught:
-            call(*values, **dict(by_name))
-        error = caught.exception
-        self.assertIs(type(error), kind, (call.__name__, values, by_name))
-        found = [name for name in NAMES if isinstance(error, getattr(errors, name))]
-        self.assertEqual(sorted(found), sorted([kind.__name__, "SumError"]))
 
 
 class EachWrongArgument(Arguments):
@@ -139,15 +148,29 @@ class EachWrongArgument(Arguments):
     def test_a_wrong_item_at_any_place_of_a_long_list(self):
         for call, told in CALLS:
             name = told[0][0]
+            if name == "count":
+                continue
             valid = {"day": 0, "first": 0, "second": 0, "beyond": 0, "days": [0], "most": 9, "thing": None,
-                     "low": 0, "high": 9, "index": 0, "way": [5] * 67, "number": 5}
+                     "low": 0, "high": 9, "index": 0, "way": [5] * 67, "number": 5, "other": [5] * 67,
+                     "other_length": 1}
             others = [1] + [valid[other] for other, _ in told[2:]]
-            call([5] * 67, *others)
-            for at in (0, 1, 33, 65, 66):
+            many = 60 if call in RINGS else 67
+            call([5] * many, *others)
+            for at in (0, 1, 33, many - 2, many - 1):
                 for odd in NO_INTEGERS:
-                    row = [5] * 67
+                    row = [5] * many
                     row[at] = odd
                     self.check_error(ERRORS[name], call, [row] + others)
+
+    def test_a_wrong_item_at_any_place_of_long_other_sums(self):
+        for call in (have_common, joint_sums, shows_disagreement):
+            thing = [None] if call is shows_disagreement else []
+            call([5] * 67, 1, [40] * 60, 8, *thing)
+            for at in (0, 1, 33, 58, 59):
+                for odd in NO_INTEGERS:
+                    row = [40] * 60
+                    row[at] = odd
+                    self.check_error(errors.InvalidSums, call, [[5] * 67, 1, row, 8] + thing)
 
     def test_invalid_sums_decide_ahead_of_a_way_that_is_missing(self):
         for call in (least_way, greatest_way):
@@ -181,8 +204,9 @@ class EachWrongArgument(Arguments):
 
 
 class WithoutAWay(Arguments):
-    needy = [(call, told) for call, told in CALLS
-             if told[:3] == TOLD and call not in (conflict_of, shows_conflict, is_way, way_within, count_ways, count_with)]
+    needy = [(call, told) for call, told in CALLS if told[:3] == TOLD and call not in (
+        conflict_of, shows_conflict, is_way, way_within, count_ways, count_with, fit_range, corrections,
+        least_correction)]
     none = (([0, 0, 0, 9], 2, 8), ([-1, -1, -1, -1], 2, 9), ([99, 99, 99, 99], 2, 9))
 
     def test_impossible_behind_valid_arguments(self):
@@ -195,9 +219,9 @@ class WithoutAWay(Arguments):
                 self.assertIs(type(error), errors.Impossible)
                 self.assertEqual((error.word, error.days), conflict_of(*row))
 
-    def stands_behind(self, name, wrong):
+    def stands_behind(self, call, name, wrong):
         """Whether the error of this object stands behind Impossible."""
-        return name == "way" or (name == "index" and type(wrong) is int and wrong >= 0)
+        return name == "way" or (call is nth_way and name == "index" and type(wrong) is int and wrong >= 0)
 
     def test_an_argument_that_is_not_valid_decides_ahead_of_impossible(self):
         for call, told in CALLS:
@@ -207,7 +231,7 @@ class WithoutAWay(Arguments):
                 for wrong, row in product(wrong_for(call, name), self.none):
                     values = list(row) + [value for _, value in told[3:]]
                     values[at] = wrong
-                    kind = errors.Impossible if self.stands_behind(name, wrong) else ERRORS[name]
+                    kind = errors.Impossible if self.stands_behind(call, name, wrong) else ERRORS[name]
                     self.check_error(kind, call, values)
 
     def test_where_no_way_is_needed(self):

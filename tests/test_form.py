@@ -36,6 +36,20 @@ INTERFACE = {
         "count_ways": ["sums", "length", "most"], "nth_way": ["sums", "length", "most", "index"],
         "way_index": ["sums", "length", "most", "way"], "count_with": ["sums", "length", "most", "day", "number"],
     },
+    "pairs": {
+        "joined_days": ["count", "length", "other_length"],
+        "have_common": ["sums", "length", "other", "other_length"],
+        "joint_sums": ["sums", "length", "other", "other_length"],
+        "shows_disagreement": ["sums", "length", "other", "other_length", "thing"],
+    },
+    "rings": {
+        "ring_sums": ["numbers", "length"], "ring_line": ["sums", "length"], "shows_open": ["sums", "length", "thing"],
+        "ring_ways": ["sums", "length", "most"], "ring_least": ["sums", "length", "most"],
+    },
+    "slips": {
+        "fit_range": ["sums", "length", "most", "index"], "corrections": ["sums", "length", "most"],
+        "least_correction": ["sums", "length", "most"],
+    },
 }
 
 
@@ -71,13 +85,13 @@ class Form(unittest.TestCase):
                 if isinstance(node, ast.FunctionDef):
                     self.assertLessEqual(node.end_lineno - node.lineno + 1, 40, (path, node.name))
 
-    def test_imports_are_of_the_package_but_for_comb(self):
+    def test_imports_are_of_the_package_but_for_comb_and_gcd(self):
         for path, tree in trees():
             for node in ast.walk(tree):
                 self.assertNotIsInstance(node, ast.Import, path)
                 if isinstance(node, ast.ImportFrom):
                     if node.module == "math":
-                        self.assertEqual([name.name for name in node.names], ["comb"], path)
+                        self.assertIn([name.name for name in node.names], (["comb"], ["gcd"]), path)
                     else:
                         self.assertTrue(node.module.startswith("weeksums."), (path, node.module))
                     self.assertEqual([name.asname for name in node.names], [None] * len(node.names))

@@ -6,8 +6,11 @@ import plainly
 from weeksums import errors
 from weeksums.counts import count_ways, count_with, nth_way, way_index
 from weeksums.levels import greatest_floor, least_peak, least_spread, peak_paper, way_within
+from weeksums.pairs import have_common, joined_days, joint_sums, shows_disagreement
 from weeksums.ranges import (all_ranges, certain_days, day_range, difference_range, next_range, row_range,
                              total_range)
+from weeksums.rings import ring_least, ring_line, ring_sums, ring_ways, shows_open
+from weeksums.slips import corrections, fit_range, least_correction
 from weeksums.ties import days_of, forced_total, sums_of, tie_between, tied_days
 from weeksums.ways import conflict_of, greatest_way, is_way, least_way, shows_conflict
 
@@ -41,8 +44,41 @@ def calls_of_ways(told, days):
         yield way_index, {**told, "way": way}
 
 
+def calls_of_pairs():
+    """Calls of the functions of two rows of sums, also of those that do not agree."""
+    for count, length, other_length in ((5, 2, 3), (67, 8, 7), (8, 4, 6), (8, 8, 8), (3, 2, 3)):
+        yield joined_days, {"count": count, "length": length, "other_length": other_length}
+    pairs = (([4, 5, 5, 6], 2, [8, 6, 10], 3), ([4, 5, 5, 6], 2, [8, 6, 11], 3), ([4, 5, 5, 6], 2, [9, 7, 11], 3),
+             ([4, 5], 2, [9], 3), ([4, 5], 2, [4, 5], 2), ([4, 5], 2, [4, 6], 2), ([4, 5], 2, [4], 2),
+             (LONG_SUMS, 7, plainly.sums_by_hand(LONG, 4), 4), (LONG_SUMS, 7, [5] * 60, 8))
+    things = (("ring", [0, 2, 4, 1, 3, 0]), ("ring", [[0], {"a": [2]}]), ("parts", []), {"a": [[0], ([0],)]}, INNER)
+    for sums, length, other, other_length in pairs:
+        told = {"sums": sums, "length": length, "other": other, "other_length": other_length}
+        yield have_common, told
+        yield joint_sums, told
+        for thing in things:
+            yield shows_disagreement, {**told, "thing": thing}
+
+
+def calls_of_rings():
+    """Calls of the functions of days in a ring, also of sums that leave it open."""
+    things = (("ring", [0, 2, 0]), ("ring", [[0], {"a": [2]}]), ("parts", []), {"a": [[0], ([0],)]}, INNER)
+    for sums, length in (([4, 5, 5, 4], 2), ([4, 5, 5, 5], 2), ([1, 2, 4], 2), ([7], 1), (LONG[:60], 1),
+                         (ring_sums(LONG[:60], 8), 8)):
+        told = {"sums": sums, "length": length}
+        yield ring_sums, {"numbers": sums, "length": length}
+        yield ring_line, told
+        for thing in things:
+            yield shows_open, {**told, "thing": thing}
+        for call in (ring_ways, ring_least):
+            for most in (3, 9, TOP):
+                yield call, {**told, "most": most}
+
+
 def valid_calls():
     """Calls with valid arguments, also those that raise Impossible or what stands behind it."""
+    yield from calls_of_pairs()
+    yield from calls_of_rings()
     for sums, length, most in (([4, 5, 5, 6], 2, 9), (LONG_SUMS, 7, TOP), (APART, 2, 9), ([-1, -1], 2, 9),
                                ([99, 99], 2, 9), ([0], 8, 0), ([1, 2, 3], 1, 3)):
         count = len(sums) + length - 1
@@ -53,8 +89,10 @@ def valid_calls():
         yield tie_between, {"sums": sums, "length": length, "first": count - 1, "second": (count - 1) % length}
         yield tie_between, {"sums": sums, "length": length, "first": 0, "second": count - 1}
         yield forced_total, {"sums": sums, "length": length, "days": days}
-        for call in (conflict_of, least_way, greatest_way):
+        for call in (conflict_of, least_way, greatest_way, corrections, least_correction):
             yield call, {"sums": sums, "length": length, "most": most}
+        for index in (0, len(sums) - 1):
+            yield fit_range, {"sums": sums, "length": length, "most": most, "index": index}
         things = (days, ("apart", days), ("apart", [1, 3]), ("low", days), ("high", days), [0] * count, LONG, None,
                   {"a": [days, (days,)]}, [[days], {"b": days}, INNER], "text", ("low", [[0], {"a": days}]))
         for call in (shows_conflict, is_way):
@@ -134,13 +172,16 @@ class Calls(unittest.TestCase):
             least_way: (list,), greatest_way: (list,), all_ranges: (list,), certain_days: (list,),
             least_peak: (int,), peak_paper: (tuple,), greatest_floor: (int,), least_spread: (int,),
             way_within: (list, type(None)), count_ways: (int,), nth_way: (list,), way_index: (int,),
-            count_with: (int,),
+            count_with: (int,), joined_days: (list,), have_common: (bool,), joint_sums: (list,),
+            shows_disagreement: (bool,), ring_sums: (list,), ring_line: (list,), shows_open: (bool,),
+            ring_ways: (int,), ring_least: (list, type(None)), fit_range: (tuple, type(None)), corrections: (list,),
+            least_correction: (tuple, type(None)),
         }
         pairs = (day_range, row_range, total_range, difference_range, next_range)
         for call, values in valid_calls():
             try:
                 told = call(**values)
-            except (errors.Impossible, errors.InvalidIndex, errors.InvalidWay):
+            except errors.SumError:
                 continue
             if call in pairs:
                 self.assertEqual([type(told)] + [type(number) for number in told], [tuple, int, int], call.__name__)
@@ -151,6 +192,8 @@ class Calls(unittest.TestCase):
         told = ([4, 5, 5, 6], 2, 3)
         for row in all_ranges(*told) + certain_days(*told):
             self.assertEqual([type(row)] + [type(number) for number in row], [tuple, int, int])
+        for days in joined_days(7, 4, 6):
+            self.assertEqual([type(days)] + [type(day) for day in days], [list] + [int] * len(days))
         for row in (nth_way(*told, 0), way_within(*told, 0, 9), peak_paper(*told)[1]):
             self.assertEqual({type(number) for number in row}, {int})
         self.assertEqual([type(part) for part in peak_paper(*told)], [str, list])
@@ -172,6 +215,11 @@ class Calls(unittest.TestCase):
             self.assertGreater(count_with(*told, 66, number), 0)
         self.assertTrue(shows_conflict(LONG_SUMS, 7, least_peak(*told) - 1, peak_paper(*told)))
         self.assertEqual(count_with(*told, 66, last), 0)
+        self.assertEqual(joint_sums(LONG_SUMS, 7, sums_of(LONG, 8), 8), LONG)
+        self.assertEqual(ring_line(ring_sums(LONG[:60], 8), 8), sums_of(LONG[:60], 4))
+        for index, least, greatest in corrections(*told):
+            for value in (least, greatest):
+                self.assertIsNone(conflict_of(LONG_SUMS[:index] + [value] + LONG_SUMS[index + 1:], 7, TOP))
 
 
 class Impossibles(unittest.TestCase):

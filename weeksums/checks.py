@@ -4,6 +4,7 @@ from weeksums.errors import InvalidDay, InvalidDays, InvalidIndex, InvalidLength
 from weeksums.errors import InvalidNumber, InvalidNumbers, InvalidSums
 
 GREATEST_COUNT = 67
+GREATEST_RING = 60
 GREATEST_LENGTH = 8
 GREATEST_MOST = 10 ** 30 - 1
 
@@ -18,9 +19,9 @@ def is_within(thing, low, high):
     return is_integer(thing) and low <= thing <= high
 
 
-def is_row(thing):
-    """Whether any object is a list of 1 to 67 integers."""
-    if type(thing) is not list or not 1 <= len(thing) <= GREATEST_COUNT:
+def is_row(thing, many):
+    """Whether any object is a list of 1 to so many integers."""
+    if type(thing) is not list or not 1 <= len(thing) <= many:
         return False
     return all([is_integer(item) for item in thing])
 
@@ -41,7 +42,7 @@ def is_choice(thing, length, count):
 
 def check_numbers(numbers, length):
     """The numbers of the days, then the length of the sums that are asked of them."""
-    if not is_row(numbers):
+    if not is_row(numbers, GREATEST_COUNT):
         raise InvalidNumbers("the numbers are not a list of 1 to 67 integers")
     if not is_within(length, 1, min(GREATEST_LENGTH, len(numbers))):
         raise InvalidLength("the length is not from 1 to 8 and at most the number of days")
@@ -49,10 +50,42 @@ def check_numbers(numbers, length):
 
 def check_sums(sums, length):
     """The sums, then their length, which together tell of a number of days."""
-    if not is_row(sums):
+    if not is_row(sums, GREATEST_COUNT):
         raise InvalidSums("the sums are not a list of 1 to 67 integers")
     if not is_within(length, 1, min(GREATEST_LENGTH, GREATEST_COUNT + 1 - len(sums))):
         raise InvalidLength("the length is not from 1 to 8, or tells of more than 67 days")
+
+
+def check_length(length):
+    """A length by itself, without sums."""
+    if not is_within(length, 1, GREATEST_LENGTH):
+        raise InvalidLength("the length is not from 1 to 8")
+
+
+def check_count(count):
+    """A number of days."""
+    if not is_within(count, 1, GREATEST_COUNT):
+        raise InvalidNumber("the number of days is not from 1 to 67")
+
+
+def check_ring_numbers(numbers, length):
+    """The numbers of days in a ring, then the length of the sums that are asked of them."""
+    if not is_row(numbers, GREATEST_RING):
+        raise InvalidNumbers("the numbers are not a list of 1 to 60 integers")
+    check_ring_length(length, len(numbers))
+
+
+def check_ring_sums(sums, length):
+    """The sums of days in a ring, then their length."""
+    if not is_row(sums, GREATEST_RING):
+        raise InvalidSums("the sums are not a list of 1 to 60 integers")
+    check_ring_length(length, len(sums))
+
+
+def check_ring_length(length, count):
+    """The length of the sums of so many days in a ring."""
+    if not is_within(length, 1, min(GREATEST_LENGTH, count)):
+        raise InvalidLength("the length is not from 1 to 8 and at most the number of days")
 
 
 def check_most(most):
@@ -95,7 +128,13 @@ def check_index(index):
         raise InvalidIndex("the index is not an integer from 0 on")
 
 
+def check_place(index, count):
+    """The index of one of so many things."""
+    if not is_within(index, 0, count - 1):
+        raise InvalidIndex("there is no such index")
+
+
 def check_number(number):
-    """A number that a day may have or not."""
+    """A number that a day, or a sum, may have or not."""
     if not is_integer(number):
         raise InvalidNumber("the number is not an integer")

@@ -57,6 +57,26 @@ def offsets_of(sums, length):
     return offsets
 
 
+def sums_from(offsets, length, first):
+    """The sums of which these are the offsets, from the first one on."""
+    sums = [first]
+    for at in range(len(offsets) - length):
+        sums.append(sums[at] + offsets[at + length] - offsets[at])
+    return sums
+
+
+def part_total(total, length, offsets, part):
+    """What the first days, so many as the part is long, have together if the first length days have this total.
+
+    The offsets are those behind these first days; None if no integers add up to the total.
+    """
+    rest = total - sum(offsets[:length])
+    parts = length // part
+    if rest % parts != 0:
+        return None
+    return rest // parts
+
+
 def total_at(sums, offsets, days):
     """The forced total of days, one of each class; the first days of the classes have the first sum."""
     return sums[0] + sum([offsets[day] for day in days])
