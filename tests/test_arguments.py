@@ -12,7 +12,9 @@ from weeksums.pairs import have_common, joined_days, joint_sums, shows_disagreem
 from weeksums.ranges import (all_ranges, certain_days, day_range, difference_range, next_range, row_range,
                              total_range)
 from weeksums.rings import ring_least, ring_line, ring_sums, ring_ways, shows_open
+from weeksums.rough import is_rough_way, rough_conflict, rough_range, rough_way, shows_rough
 from weeksums.slips import corrections, fit_range, least_correction
+from weeksums.texts import write_bounds, write_sums, write_way
 from weeksums.ties import days_of, forced_total, sums_of, tie_between, tied_days
 from weeksums.ways import conflict_of, greatest_way, is_way, least_way, shows_conflict
 
@@ -23,6 +25,7 @@ NUMBERS = [3, 1, 4, 1, 5]
 TOLD = [("sums", SUMS), ("length", 2), ("most", 9)]
 BOTH = [("sums", SUMS), ("length", 2), ("other", [8, 6, 10]), ("other_length", 3)]
 RING = [("sums", [4, 5, 5, 4]), ("length", 2)]
+ROUGH = [("bounds", [(4, 4), (5, 5), (5, 7), (6, 6)]), ("length", 2), ("most", 9)]
 
 # Each function with valid arguments, in the order of its signature, and the
 # error of each of them; thing, low and high have none.
@@ -65,6 +68,14 @@ CALLS = (
     (fit_range, TOLD + [("index", 3)]),
     (corrections, TOLD),
     (least_correction, TOLD),
+    (rough_conflict, ROUGH),
+    (shows_rough, ROUGH + [("thing", [0, 1, 0])]),
+    (is_rough_way, ROUGH + [("thing", NUMBERS)]),
+    (rough_way, ROUGH),
+    (rough_range, ROUGH + [("first", 1), ("beyond", 4)]),
+    (write_sums, [("sums", SUMS)]),
+    (write_way, [("way", NUMBERS)]),
+    (write_bounds, ROUGH[:1]),
 )
 RINGS = (ring_sums, ring_line, shows_open, ring_ways, ring_least)
 ERRORS = {
@@ -73,6 +84,7 @@ ERRORS = {
     "second": errors.InvalidDay, "beyond": errors.InvalidDay, "days": errors.InvalidDays,
     "way": errors.InvalidWay, "index": errors.InvalidIndex, "number": errors.InvalidNumber,
     "other": errors.InvalidSums, "other_length": errors.InvalidLength, "count": errors.InvalidNumber,
+    "bounds": errors.InvalidBounds,
 }
 NO_ROWS = (
     None, True, 0, 7, 10 ** 30, "", "4 5 5 6", (), tuple(SUMS), {}, {"a": [1]}, [], [SUMS], [tuple(SUMS)], DEEP,
@@ -98,6 +110,11 @@ WRONG["index"] = (-1, -TOP, 5, TOP, 10 ** 300 - 1, True, False, None, "4", [4])
 WRONG["other"] = NO_ROWS
 WRONG["other_length"] = WRONG["length"]
 WRONG["count"] = (0, -1, 68, TOP, -TOP, True, False, None, "5", [5])
+WRONG["bounds"] = (
+    None, True, 0, "4..4", (), ((4, 4),), {}, {"a": (4, 4)}, [], [4], [[4, 4]], [(4,)], [()], [(4, 4, 4)], [(5, 4)],
+    [(True, 4)], [(0, True)], [(0, 1), (False, 1)], [("4", "5")], [(None, None)], [None], [(4, 4), (5, 4)], [((4,), 4)],
+    [((4, 4), (4, 4))], DEEP, [(0, 0)] * 61, [(0, 0)] * 4000, errors.Impossible("low", [1]), [(TOP, -TOP)],
+)
 WRONG["number"] = (None, True, False, "5", [5], (5,), {})
 DIFFERENT = (
     None, True, 0, "01", (), (0, 1), {}, {"0": 0, "1": 1}, [0, 0], [4, 1, 4], [0, 1, 2, 3, 4, 0], [3, 3], [-1], [-1, 0],
@@ -108,6 +125,8 @@ DIFFERENT = (
 
 def wrong_for(call, name):
     """The objects that are not valid for an argument."""
+    if call is write_way:
+        return NO_ROWS + ([-1], NUMBERS + [-1], [-TOP])
     if call in RINGS and name in ("sums", "numbers"):
         return NO_ROWS + ([0] * 61, [0] * 67)
     if call is total_range and name == "days":
@@ -143,12 +162,13 @@ class EachWrongArgument(Arguments):
     def test_all_wrong_at_once(self):
         for call, told in CALLS:
             self.check_error(ERRORS[told[0][0]], call, [None for _ in told])
-            self.check_error(ERRORS[told[1][0]], call, [told[0][1]] + [None for _ in told[1:]])
+            if told[1:]:
+                self.check_error(ERRORS[told[1][0]], call, [told[0][1]] + [None for _ in told[1:]])
 
     def test_a_wrong_item_at_any_place_of_a_long_list(self):
         for call, told in CALLS:
             name = told[0][0]
-            if name == "count":
+            if name not in ("sums", "numbers") or not told[1:]:
                 continue
             valid = {"day": 0, "first": 0, "second": 0, "beyond": 0, "days": [0], "most": 9, "thing": None,
                      "low": 0, "high": 9, "index": 0, "way": [5] * 67, "number": 5, "other": [5] * 67,

@@ -50,6 +50,21 @@ INTERFACE = {
         "fit_range": ["sums", "length", "most", "index"], "corrections": ["sums", "length", "most"],
         "least_correction": ["sums", "length", "most"],
     },
+    "rough": {
+        "rough_conflict": ["bounds", "length", "most"], "shows_rough": ["bounds", "length", "most", "thing"],
+        "is_rough_way": ["bounds", "length", "most", "thing"], "rough_way": ["bounds", "length", "most"],
+        "rough_range": ["bounds", "length", "most", "first", "beyond"],
+    },
+    "live": {"Watch": ["length", "most"]},
+    "texts": {
+        "write_sums": ["sums"], "read_sums": ["text"], "write_way": ["way"], "read_way": ["text"],
+        "write_bounds": ["bounds"], "read_bounds": ["text"],
+    },
+    "session": {"session": ["rows"]},
+}
+METHODS = {
+    "add": ["number"], "undo": [], "mark": [], "undo_to": ["index"], "twin": [], "days_so_far": [], "range_of": ["day"],
+    "next_range": [], "ways": [], "__len__": [],
 }
 
 
@@ -66,6 +81,11 @@ class Interface(unittest.TestCase):
                 thing = getattr(module, name)
                 self.assertEqual(thing.__module__, f"weeksums.{file}")
                 self.assertEqual(list(inspect.signature(thing).parameters), arguments, name)
+
+    def test_methods_of_the_watch(self):
+        watch = importlib.import_module("weeksums.live").Watch
+        for name, arguments in METHODS.items():
+            self.assertEqual(list(inspect.signature(vars(watch)[name]).parameters), ["self"] + arguments, name)
 
 
 class Form(unittest.TestCase):

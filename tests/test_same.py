@@ -10,7 +10,10 @@ from weeksums.pairs import have_common, joined_days, joint_sums, shows_disagreem
 from weeksums.ranges import (all_ranges, certain_days, day_range, difference_range, next_range, row_range,
                              total_range)
 from weeksums.rings import ring_least, ring_line, ring_sums, ring_ways, shows_open
+from weeksums.rough import is_rough_way, rough_conflict, rough_range, rough_way, shows_rough
+from weeksums.session import session
 from weeksums.slips import corrections, fit_range, least_correction
+from weeksums.texts import read_bounds, read_sums, read_way, write_bounds, write_sums, write_way
 from weeksums.ties import days_of, forced_total, sums_of, tie_between, tied_days
 from weeksums.ways import conflict_of, greatest_way, is_way, least_way, shows_conflict
 
@@ -75,10 +78,40 @@ def calls_of_rings():
                 yield call, {**told, "most": most}
 
 
+def calls_of_rough_sums():
+    """Calls of the functions of bounds, also of those without a way."""
+    far = [(told - 5, told + 5) for told in sums_of(LONG, 8)]
+    things = ([0, 1, 0], [2, 1, 3, 4, 2], [3, 1, 4, 1, 5], [[0], {"a": [2]}], ("walk", [0]), {"a": [[0], ([0],)]}, INNER)
+    for bounds, length, most in (([(4, 4), (5, 5), (5, 7), (6, 6)], 2, 9), ([(4, 4), (5, 5), (15, 15)], 2, 9), (far, 8, TOP),
+                                 ([(-1, -1)] * 60, 8, TOP), ([(0, 3), (2, 5)], 1, 4)):
+        told = {"bounds": bounds, "length": length, "most": most}
+        yield rough_conflict, told
+        yield rough_way, told
+        for call in (shows_rough, is_rough_way):
+            for thing in things:
+                yield call, {**told, "thing": thing}
+        for first, beyond in ((0, 0), (0, 2), (1, 2)):
+            yield rough_range, {**told, "first": first, "beyond": beyond}
+        yield write_bounds, {"bounds": bounds}
+
+
+def calls_of_texts():
+    """Calls of the functions of texts and of sessions."""
+    for numbers in ([4, 5, 5, 6], LONG, [0]):
+        yield write_sums, {"sums": numbers}
+        yield write_way, {"way": numbers}
+    for text in ("4 5 5 6", "0", "", "-3 x", "3 -3", "4..5 5..5", "4..5 5..4", " ", "watch 2 9\nadd 4\nleast\nadd 99\n"):
+        for call in (read_sums, read_way, read_bounds):
+            yield call, {"text": text}
+        yield session, {"rows": text}
+
+
 def valid_calls():
     """Calls with valid arguments, also those that raise Impossible or what stands behind it."""
     yield from calls_of_pairs()
     yield from calls_of_rings()
+    yield from calls_of_rough_sums()
+    yield from calls_of_texts()
     for sums, length, most in (([4, 5, 5, 6], 2, 9), (LONG_SUMS, 7, TOP), (APART, 2, 9), ([-1, -1], 2, 9),
                                ([99, 99], 2, 9), ([0], 8, 0), ([1, 2, 3], 1, 3)):
         count = len(sums) + length - 1
@@ -107,7 +140,7 @@ def invalid_calls():
     odd = [1, [2, {"a": (3, [4])}], INNER]
     for call, values in valid_calls():
         for name in values:
-            if name not in ("thing", "low", "high"):
+            if name not in ("thing", "low", "high", "text", "rows"):
                 yield call, {**values, name: odd}
 
 
@@ -177,7 +210,12 @@ class Calls(unittest.TestCase):
             ring_ways: (int,), ring_least: (list, type(None)), fit_range: (tuple, type(None)), corrections: (list,),
             least_correction: (tuple, type(None)),
         }
-        pairs = (day_range, row_range, total_range, difference_range, next_range)
+        kinds.update({
+            rough_conflict: (list, type(None)), shows_rough: (bool,), is_rough_way: (bool,),
+            rough_way: (list, type(None)), write_sums: (str,), write_way: (str,), write_bounds: (str,),
+            read_sums: (list,), read_way: (list,), read_bounds: (list,), session: (str,),
+        })
+        pairs = (day_range, row_range, total_range, difference_range, next_range, rough_range)
         for call, values in valid_calls():
             try:
                 told = call(**values)
@@ -215,6 +253,9 @@ class Calls(unittest.TestCase):
             self.assertGreater(count_with(*told, 66, number), 0)
         self.assertTrue(shows_conflict(LONG_SUMS, 7, least_peak(*told) - 1, peak_paper(*told)))
         self.assertEqual(count_with(*told, 66, last), 0)
+        self.assertEqual(read_way(write_way(greatest_way(*told))), greatest_way(*told))
+        walk = rough_conflict([(told, told) for told in APART], 2, 9)
+        self.assertIs(shows_rough([(told, told) for told in APART], 2, 9, walk), True)
         self.assertEqual(joint_sums(LONG_SUMS, 7, sums_of(LONG, 8), 8), LONG)
         self.assertEqual(ring_line(ring_sums(LONG[:60], 8), 8), sums_of(LONG[:60], 4))
         for index, least, greatest in corrections(*told):

@@ -1,10 +1,11 @@
 """What is valid: each check raises the error of its own argument."""
 
-from weeksums.errors import InvalidDay, InvalidDays, InvalidIndex, InvalidLength, InvalidMost
-from weeksums.errors import InvalidNumber, InvalidNumbers, InvalidSums
+from weeksums.errors import InvalidBounds, InvalidDay, InvalidDays, InvalidIndex, InvalidLength, InvalidMost
+from weeksums.errors import InvalidNumber, InvalidNumbers, InvalidSums, InvalidWay
 
 GREATEST_COUNT = 67
 GREATEST_RING = 60
+GREATEST_BOUNDS = 60
 GREATEST_LENGTH = 8
 GREATEST_MOST = 10 ** 30 - 1
 
@@ -40,6 +41,14 @@ def is_choice(thing, length, count):
     return sorted([day % length for day in thing]) == list(range(length))
 
 
+def is_bound(thing):
+    """Whether any object is a tuple of two integers, the first one not greater than the second one."""
+    if type(thing) is not tuple or len(thing) != 2:
+        return False
+    least, greatest = thing
+    return is_integer(least) and is_integer(greatest) and least <= greatest
+
+
 def check_numbers(numbers, length):
     """The numbers of the days, then the length of the sums that are asked of them."""
     if not is_row(numbers, GREATEST_COUNT):
@@ -48,12 +57,31 @@ def check_numbers(numbers, length):
         raise InvalidLength("the length is not from 1 to 8 and at most the number of days")
 
 
-def check_sums(sums, length):
-    """The sums, then their length, which together tell of a number of days."""
+def check_row_of_sums(sums):
+    """The sums by themselves, without their length."""
     if not is_row(sums, GREATEST_COUNT):
         raise InvalidSums("the sums are not a list of 1 to 67 integers")
+
+
+def check_sums(sums, length):
+    """The sums, then their length, which together tell of a number of days."""
+    check_row_of_sums(sums)
     if not is_within(length, 1, min(GREATEST_LENGTH, GREATEST_COUNT + 1 - len(sums))):
         raise InvalidLength("the length is not from 1 to 8, or tells of more than 67 days")
+
+
+def check_bounds(bounds):
+    """The bounds of the sums."""
+    if type(bounds) is not list or not 1 <= len(bounds) <= GREATEST_BOUNDS:
+        raise InvalidBounds("the bounds are not a list of 1 to 60 tuples")
+    if not all([is_bound(bound) for bound in bounds]):
+        raise InvalidBounds("the bounds of a sum are not a least and a greatest integer")
+
+
+def check_way(way):
+    """A way of which the sums and the most are not known."""
+    if not is_row(way, GREATEST_COUNT) or min(way) < 0:
+        raise InvalidWay("the way is not a list of 1 to 67 integers from 0 on")
 
 
 def check_length(length):

@@ -18,8 +18,7 @@ def count_ways(sums, length, most):
     check_told(sums, length, most)
     if find_conflict(sums, length, most) is not None:
         return 0
-    ranges = start_ranges(offsets_of(sums, length), length, most)
-    return count_fillings(rooms_of(ranges), spare_of(ranges, sums[0]))
+    return count_of(sums, length, most)
 
 
 def nth_way(sums, length, most, index):
@@ -27,7 +26,7 @@ def nth_way(sums, length, most, index):
     check_told(sums, length, most)
     check_index(index)
     need_way(sums, length, most)
-    if index >= count_ways(sums, length, most):
+    if index >= count_of(sums, length, most):
         raise InvalidIndex("there are not so many ways")
     offsets = offsets_of(sums, length)
     ranges = start_ranges(offsets, length, most)
@@ -60,6 +59,12 @@ def count_with(sums, length, most, day, number):
     if not is_within(first, low, high):
         return 0
     ranges[day % length] = (first, first)
+    return count_fillings(rooms_of(ranges), spare_of(ranges, sums[0]))
+
+
+def count_of(sums, length, most):
+    """How many ways there are, where there is one."""
+    ranges = start_ranges(offsets_of(sums, length), length, most)
     return count_fillings(rooms_of(ranges), spare_of(ranges, sums[0]))
 
 

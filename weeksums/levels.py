@@ -8,15 +8,15 @@ def least_peak(sums, length, most):
     """The least number that some way never passes."""
     check_told(sums, length, most)
     need_way(sums, length, most)
-    offsets = offsets_of(sums, length)
-    return max(widest_tie(offsets, length), least_high(sums, offsets, length))
+    return peak_of(sums, length)
 
 
 def peak_paper(sums, length, most):
     """A word and the list of the days that rule out a way below the least peak."""
-    peak = least_peak(sums, length, most)
+    check_told(sums, length, most)
+    need_way(sums, length, most)
     offsets = offsets_of(sums, length)
-    pair = first_apart(offsets, length, peak - 1)
+    pair = first_apart(offsets, length, peak_of(sums, length) - 1)
     if pair is not None:
         return ("apart", pair)
     return ("high", highest_days(offsets, length))
@@ -26,8 +26,7 @@ def greatest_floor(sums, length, most):
     """The greatest number below which some way never falls."""
     check_told(sums, length, most)
     need_way(sums, length, most)
-    offsets = offsets_of(sums, length)
-    return min(most - widest_tie(offsets, length), greatest_low(sums, offsets, length))
+    return floor_of(sums, length, most)
 
 
 def least_spread(sums, length, most):
@@ -51,6 +50,18 @@ def way_within(sums, length, most, low, high):
     if find_conflict(lowered, length, highest - lowest) is not None:
         return None
     return [number + lowest for number in first_way(lowered, length, highest - lowest)]
+
+
+def peak_of(sums, length):
+    """The least peak, where there is a way."""
+    offsets = offsets_of(sums, length)
+    return max(widest_tie(offsets, length), least_high(sums, offsets, length))
+
+
+def floor_of(sums, length, most):
+    """The greatest floor, where there is a way."""
+    offsets = offsets_of(sums, length)
+    return min(most - widest_tie(offsets, length), greatest_low(sums, offsets, length))
 
 
 def widest_tie(offsets, length):

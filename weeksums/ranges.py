@@ -17,13 +17,14 @@ def all_ranges(sums, length, most):
     """The list of the ranges of all days."""
     check_told(sums, length, most)
     need_way(sums, length, most)
-    return [range_between(sums, length, most, [], [day]) for day in range(len(sums) + length - 1)]
+    return ranges_of(sums, length, most)
 
 
 def certain_days(sums, length, most):
     """The days that have one number in all ways, each with its number, ascending."""
-    ranges = all_ranges(sums, length, most)
-    return [(day, low) for day, (low, high) in enumerate(ranges) if low == high]
+    check_told(sums, length, most)
+    need_way(sums, length, most)
+    return certain_of(sums, length, most)
 
 
 def row_range(sums, length, most, first, beyond):
@@ -55,6 +56,22 @@ def next_range(sums, length, most):
     """The range of the sum that can come next."""
     check_told(sums, length, most)
     need_way(sums, length, most)
+    return range_ahead(sums, length, most)
+
+
+def ranges_of(sums, length, most):
+    """The list of the ranges of all days, where there is a way."""
+    return [range_between(sums, length, most, [], [day]) for day in range(len(sums) + length - 1)]
+
+
+def certain_of(sums, length, most):
+    """The days that have one number in all ways, where there is a way."""
+    ranges = ranges_of(sums, length, most)
+    return [(day, low) for day, (low, high) in enumerate(ranges) if low == high]
+
+
+def range_ahead(sums, length, most):
+    """The range of the sum that can come next, where there is a way."""
     # The next sum takes in a new day, which may have any number, and no longer
     # the first day of the last sum.
     low, high = range_between(sums, length, most, [len(sums) - 1], [])
